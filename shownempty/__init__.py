@@ -1,0 +1,1 @@
+"""Shownempty: acts of close conjuring, and what no guest, eye, slip or challenge can give away."""
