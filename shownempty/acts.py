@@ -3,7 +3,7 @@
 from shownempty.craft import Craft
 from shownempty.deeds import moved
 from shownempty.errors import BadCue, NoCue, NoStanding, TooMany, Unlike
-from shownempty.forms import frozen, is_kind, is_row, is_whole
+from shownempty.forms import begins_with_word, frozen, is_kind, is_row, is_whole
 from shownempty.worlds import is_world
 
 MOST_CUES = 60
@@ -13,7 +13,8 @@ class Act:
     """A craft and cues, which are gone through from the first one on."""
 
     def __init__(self, craft, cues):
-        judge_cues(craft, cues)
+        many = number_of_cues(cues)
+        judge_cues([is_cue(craft, cue, k, many) for k, cue in enumerate(cues)])
         self.craft = craft
         self.cues = frozen(cues)
 
@@ -69,20 +70,25 @@ class Act:
         return frozen(thing)
 
 
-def judge_cues(craft, cues):
-    """Raises what is wrong with the cues of an act."""
+def number_of_cues(cues):
+    """How many cues there are; raises that they are no tuple of at least one thing."""
     if not is_row(cues) or len(cues) == 0:
         raise BadCue(-1)
-    for k, cue in enumerate(cues):
-        if not is_cue(craft, cue, k, len(cues)):
+    return len(cues)
+
+
+def judge_cues(goods):
+    """Raises the first cue that is not good, as is told for each of them, then that there are too many."""
+    for k, good in enumerate(goods):
+        if not good:
             raise BadCue(k)
-    if len(cues) > MOST_CUES:
+    if len(goods) > MOST_CUES:
         raise TooMany("cue")
 
 
 def is_cue(craft, thing, number, many):
     """Whether it can be the cue with this number among so many."""
-    if not is_row(thing) or len(thing) == 0 or not isinstance(thing[0], str):
+    if not begins_with_word(thing):
         return False
     what = thing[0]
     if what == "do":
@@ -114,13 +120,16 @@ def is_glance(craft, cue, number, many):
     if len(cue) != 4:
         return False
     _, place, kind, target = cue
-    if not is_whole(place, 0, craft.size - 1) or not is_kind(kind):
-        return False
-    return is_whole(target, number + 1, many - 1)
+    return is_look(craft, place, kind) and is_whole(target, number + 1, many - 1)
+
+
+def is_look(craft, place, kind):
+    """Whether it is a place of the craft, and a kind for which one can look there."""
+    return is_whole(place, 0, craft.size - 1) and is_kind(kind)
 
 
 def is_standing(act, thing):
-    """Whether it is a pair of the number of a cue and a world of the size."""
+    """Whether it is a pair of the number of a cue (of an act, or a plot) and a world of the size."""
     if not is_row(thing) or len(thing) != 2:
         return False
     return is_whole(thing[0], 0, len(act.cues) - 1) and is_world(thing[1], act.craft.size)

@@ -16,6 +16,11 @@ def is_row(thing):
     return isinstance(thing, (tuple, list))
 
 
+def begins_with_word(thing):
+    """Whether it is a tuple whose first thing is a string, as those of cues and statements."""
+    return is_row(thing) and len(thing) > 0 and isinstance(thing[0], str)
+
+
 def is_lot(thing, low, high):
     """Whether it is a lot of integers from low to high."""
     if not is_row(thing) or not all([is_whole(part, low, high) for part in thing]):

@@ -3,11 +3,13 @@
 from shownempty.deedtext import read_deed, write_deed
 from shownempty.errors import BadLine, BadText
 from shownempty.forms import is_kind, is_name
+from shownempty.patterntext import read_pattern, write_pattern
 
 # The forms have the names that the document gives them.
 BOUNDS = {"SIZE": (2, 6), "PRICE": (1, 9), "PLACE": (0, 5), "NO": (0, 59), "YES": (0, 59), "TARGET": (0, 59)}
 MOST_DIGIT = {"SHOWN": 5, "SPOTS": 6}
 DEEDS = ("MEANING", "DEED")
+PATTERNS = ("SIGHT", "WISH")
 DIGITS = "0123456789"
 NOTHING = "-"
 
@@ -43,7 +45,7 @@ def read_word(number, at, word, form):
 
 
 def thing_of(word, form):
-    """What a word of this form tells, None if it is bad; the text of a deed raises its own error."""
+    """What a word of this form tells, None if it is bad; a bad text of a deed or a pattern raises its own error."""
     if form in BOUNDS:
         low, high = BOUNDS[form]
         return whole_of(word, low, high)
@@ -51,6 +53,8 @@ def thing_of(word, form):
         return lot_of(word, MOST_DIGIT[form])
     if form in DEEDS:
         return read_deed(word)
+    if form in PATTERNS:
+        return read_pattern(word)
     if form == "MANNER" and word == NOTHING:
         return ""
     if form == "KIND":
@@ -88,6 +92,8 @@ def word_of(thing, form):
         return "".join([str(digit) for digit in thing]) if len(thing) > 0 else NOTHING
     if form in DEEDS:
         return write_deed(thing)
+    if form in PATTERNS:
+        return write_pattern(thing)
     if form == "MANNER" and thing == "":
         return NOTHING
     return thing

@@ -34,6 +34,11 @@ def is_pattern(thing):
     return are_few_words([item for item in thing if item is not None])
 
 
+def is_wish(thing, size):
+    """Whether it is a pattern with an item for each place of this size."""
+    return is_pattern(thing) and len(thing) == size
+
+
 def are_few_words(things):
     """Whether all are words, and a world or a pattern can have so many letters."""
     if not all([is_word(thing) for thing in things]):

@@ -1,0 +1,69 @@
+"""The names, arguments and places of what the document's interface lists, as far as it has been built."""
+
+import importlib
+import inspect
+
+from tests.helpers import Case
+
+FUNCTIONS = {
+    "worlds": ("is_word(thing)", "is_world(thing, size)", "is_pattern(thing)", "fits(words, pattern)",
+               "all_worlds(size, word)"),
+    "deeds": ("is_deed(thing, size)", "done(world, deed)"),
+    "plays": ("show_of(act, start, answers)",),
+    "deedtext": ("write_deed(deed)", "read_deed(text)"),
+    "patterntext": ("write_pattern(pattern)", "read_pattern(text)"),
+    "craftlines": ("write_craft(craft)", "read_craft(lines)"),
+    "actlines": ("write_act(act)", "read_act(craft, lines)"),
+    "plotlines": ("write_plot(plot)", "read_plot(craft, lines)"),
+    "scriptlines": ("write_script(script)", "read_script(craft, lines)"),
+    "scriptplays": ("played(script, start, answers)",),
+    "compiled": ("act_of(script)",),
+    "senses": ("sense(size, deed)",),
+    "deedpairs": ("short_deed(size, deed)",),
+    "smooth": ("judge_smooth(act, start, table)",),
+}
+CLASSES = {
+    "craft.Craft": ("__init__(self, size, gestures, sleights=())", "__contains__(self, x)", "__len__(self)",
+                    "__iter__(self)", "__eq__(self, other)", "meaning_of(self, gesture)", "places_of(self, gesture)",
+                    "manners_of(self, gesture)", "deed_of(self, gesture, manner)", "price_of(self, gesture, manner)",
+                    "spots_of(self, gesture, manner)", "stroke(self, world, gesture, manner='')",
+                    "without(self, *sleights)"),
+    "acts.Act": ("__init__(self, craft, cues)", "__len__(self)", "__getitem__(self, at)", "__iter__(self)",
+                 "__eq__(self, other)", "__add__(self, other)", "followers(self, standing)", "rest_at(self, standing)",
+                 "run_from(self, standing)"),
+    "plays.Play": ("__init__(self, act, start, answers='')", "__len__(self)", "__getitem__(self, at)", "__iter__(self)",
+                   "__eq__(self, other)", "__add__(self, other)"),
+    "plots.Plot": ("__init__(self, craft, cues)", "__len__(self)", "__getitem__(self, at)", "__iter__(self)",
+                   "__eq__(self, other)", "options(self, standing)", "behind(self, standing, option)",
+                   "is_broken(self, standing)"),
+    "scripts.Script": ("__init__(self, craft, body)", "__len__(self)", "__eq__(self, other)", "statements(self)"),
+    "deedpairs.DeedPair": ("__init__(self, size, first, second)", "__bool__(self)"),
+    "standings.Standings": ("__init__(self, act, start)", "__len__(self)", "__iter__(self)", "__contains__(self, x)",
+                            "__getitem__(self, at)"),
+    "smooth.Smooth": ("__init__(self, act, start)", "__bool__(self)", "__len__(self)", "__iter__(self)"),
+}
+
+
+def module_of(name):
+    return importlib.import_module("shownempty." + name)
+
+
+class TestInterface(Case):
+
+    def listed(self, told, holder, name):
+        """The holder has just this function, with these arguments, defined in the file of this name."""
+        thing = vars(holder)[told.partition("(")[0]]
+        self.assertEqual(thing.__name__ + str(inspect.signature(thing)), told)
+        self.assertEqual(thing.__module__, "shownempty." + name)
+
+    def test_functions(self):
+        for name, functions in FUNCTIONS.items():
+            for told in functions:
+                self.listed(told, module_of(name), name)
+
+    def test_classes_and_their_methods(self):
+        for path, methods in CLASSES.items():
+            name, _, title = path.partition(".")
+            self.assertEqual(getattr(module_of(name), title).__module__, "shownempty." + name)
+            for told in methods:
+                self.listed(told, getattr(module_of(name), title), name)
