@@ -2,7 +2,7 @@
 
 from shownempty.craft import Craft
 from shownempty.deeds import moved
-from shownempty.errors import BadCue, NoCue, NoStanding, TooMany, Unlike
+from shownempty.errors import BadCue, BadWorld, NoCue, NoStanding, TooMany, Unlike
 from shownempty.forms import begins_with_word, frozen, is_kind, is_row, is_whole
 from shownempty.worlds import is_world
 
@@ -126,6 +126,12 @@ def is_glance(craft, cue, number, many):
 def is_look(craft, place, kind):
     """Whether it is a place of the craft, and a kind for which one can look there."""
     return is_whole(place, 0, craft.size - 1) and is_kind(kind)
+
+
+def judge_start(act, start):
+    """Raises that this is no start of an act, or of a plot."""
+    if not is_world(start, act.craft.size):
+        raise BadWorld(start)
 
 
 def is_standing(act, thing):

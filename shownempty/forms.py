@@ -3,12 +3,17 @@
 MOST_IN_NAME = 8
 
 
-def is_whole(thing, low, high):
-    """Whether it is an integer from low to high."""
+def is_from(thing, low):
+    """Whether it is an integer from low on."""
     # To Python True is 1 and False is 0; to the document they are no integers.
     if not isinstance(thing, int) or isinstance(thing, bool):
         return False
-    return low <= thing <= high
+    return low <= thing
+
+
+def is_whole(thing, low, high):
+    """Whether it is an integer from low to high."""
+    return is_from(thing, low) and thing <= high
 
 
 def is_row(thing):

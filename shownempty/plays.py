@@ -1,10 +1,9 @@
 """Plays: what the guests see of an act when they answer."""
 
-from shownempty.acts import followers_of, rest_of, run_of
+from shownempty.acts import followers_of, judge_start, rest_of, run_of
 from shownempty.craft import sight_of
-from shownempty.errors import BadAnswer, BadWorld, NoEvent
+from shownempty.errors import BadAnswer, NoEvent
 from shownempty.forms import frozen, is_whole
-from shownempty.worlds import is_world
 
 MOST_ANSWERS = 200
 
@@ -13,8 +12,7 @@ class Play:
     """An act played from a start with answers that it asks for."""
 
     def __init__(self, act, start, answers=""):
-        if not is_world(start, act.craft.size):
-            raise BadWorld(start)
+        judge_start(act, start)
         if not is_short_string(answers):
             raise BadAnswer(-1)
         entries, last, asked = gone_through(act, frozen(start), answers)
@@ -85,8 +83,7 @@ class Play:
 
 def show_of(act, start, answers):
     """What the act shows from the start for these answers, as far as it asks for them."""
-    if not is_world(start, act.craft.size):
-        raise BadWorld(start)
+    judge_start(act, start)
     if not is_short_string(answers):
         raise BadAnswer(-1)
     for k, answer in enumerate(answers):

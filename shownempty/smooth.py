@@ -1,10 +1,9 @@
 """Smooth acts: those that are never stuck, whatever the guests answer."""
 
-from shownempty.acts import followers_of, is_standing, rest_of
-from shownempty.errors import BadWorld
+from shownempty.acts import followers_of, is_standing, judge_start, rest_of
 from shownempty.forms import frozen
-from shownempty.standings import Standings, least_row, standings_in
-from shownempty.worlds import is_world
+from shownempty.standings import Standings, least_to_rest
+from shownempty.tables import first_wrong, standings_in
 
 
 class Smooth:
@@ -14,8 +13,7 @@ class Smooth:
         standings = Standings(act, start)
         self.act = act
         self.start = standings.start
-        stuck = [standings[standing] for standing in standings if rest_of(act, standing) == "stuck"]
-        self.answers = least_row(stuck)
+        self.answers = least_to_rest(standings, "stuck")
         self.table = tuple(standings) if self.answers is None else None
         self._rows = () if self.table is None else self.table
 
@@ -31,15 +29,11 @@ class Smooth:
 
 def judge_smooth(act, start, table):
     """None if the table is right, -1 if the first standing is lacking, otherwise the number of the first bad row."""
-    if not is_world(start, act.craft.size):
-        raise BadWorld(start)
+    judge_start(act, start)
     there = standings_in(act, table)
     if (0, frozen(start)) not in there:
         return -1
-    for k, row in enumerate(table):
-        if not is_right(act, row, there):
-            return k
-    return None
+    return first_wrong([is_right(act, row, there) for row in table])
 
 
 def is_right(act, row, there):

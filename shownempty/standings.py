@@ -1,9 +1,9 @@
 """The standings of an act: all to which answers lead."""
 
-from shownempty.acts import followers_of, is_standing
-from shownempty.errors import BadWorld, NoStanding, TooMany
+from shownempty.acts import followers_of, is_standing, judge_start, rest_of
+from shownempty.errors import NoStanding
 from shownempty.forms import frozen
-from shownempty.worlds import is_world
+from shownempty.search import answered, least_row, least_rows
 
 MOST_STANDINGS = 600
 
@@ -12,8 +12,7 @@ class Standings:
     """The standings of an act from a start, each with the least answers that lead to it."""
 
     def __init__(self, act, start):
-        if not is_world(start, act.craft.size):
-            raise BadWorld(start)
+        judge_start(act, start)
         self.act = act
         self.start = frozen(start)
         self._least = least_answers(act, self.start)
@@ -36,40 +35,12 @@ class Standings:
 
 def least_answers(act, start):
     """The least answers that lead to each standing, for all to which answers lead."""
-    least = {}
-    asks = []
-    go_on(act, (0, start), "", least, asks)
-    k = 0
-    # The asks come in the order of their answers, so that whatever is found is found by its least ones.
-    while k < len(asks):
-        no, yes = followers_of(act, asks[k])
-        answers = least[asks[k]]
-        go_on(act, no, answers + "0", least, asks)
-        go_on(act, yes, answers + "1", least, asks)
-        k += 1
-    return least
+    def ways(standing):
+        return answered(followers_of(act, standing))
+
+    return least_rows([("", (0, start))], ways, MOST_STANDINGS, "standing")
 
 
-def go_on(act, standing, answers, least, asks):
-    """Adds what is new of the run from the standing to which the answers lead, and the ask at its end."""
-    while standing not in least:
-        least[standing] = answers
-        if len(least) > MOST_STANDINGS:
-            raise TooMany("standing")
-        followers = followers_of(act, standing)
-        if len(followers) == 2:
-            asks.append(standing)
-        elif len(followers) == 1:
-            standing = followers[0]
-
-
-def least_row(rows):
-    """The least of some rows of answers, None if there are none."""
-    if len(rows) == 0:
-        return None
-    return min([(len(row), row) for row in rows])[1]
-
-
-def standings_in(act, table):
-    """The rows of a table that have the form of a standing."""
-    return {frozen(row): True for row in table if is_standing(act, row)}
+def least_to_rest(standings, rest):
+    """The least answers that lead to a standing with this rest, None if there is none."""
+    return least_row([standings[standing] for standing in standings if rest_of(standings.act, standing) == rest])

@@ -47,6 +47,12 @@ NO_INTEGERS = ODD_THINGS + (True, False, "1", "", (), [1])
 NO_STRINGS = ODD_THINGS + (True, False, 0, 1, (), ["a"], ("a", "b"))
 NO_TUPLES = ODD_THINGS + (True, False, 0, "", "ab", "abc")
 
+# Rows that have the form of no standing of an act with up to 60 cues whose size is 3.
+NO_STANDINGS = NO_TUPLES + ((0, ("a", "")), (60, ("a", "", "")), (-1, ("a", "", "")), (0,), (0, ("a", "", ""), 0, 0), (),
+                            ("a", "", ""), (0, ("ba", "", "")), [0, ["a", "", True]], (("a", "", ""), 0),
+                            (0, ("aaaaa", "aaaa", "")), (0, "abc"), (0, None), "3a")
+NO_STANDINGS += tuple((number, ("a", "", "")) for number in NO_INTEGERS)
+
 
 class Case(unittest.TestCase):
     """A test case that also looks at what an error bears."""
@@ -68,6 +74,22 @@ class Case(unittest.TestCase):
         self.assertIs(type(got), type(expected))
         if got is not expected:
             self.assertEqual(got, expected)
+
+    def judged(self, judge, table, result):
+        """The judge says so of the table, also if all of it is passed as lists, and changes nothing."""
+        for rows in (tuple(table), as_lists(table)):
+            before = as_lists(rows)
+            got = judge(rows)
+            self.assertEqual((type(got), got), (type(result), result))
+            self.assertEqual(as_lists(rows), before)
+
+    def verdict(self, verdict, table):
+        """Its truth, table, length and iteration agree; there are rows only if there is a table."""
+        self.assertEqual(verdict.table, table)
+        self.assertEqual((len(verdict), tuple(verdict)), (len(table or ()), table or ()))
+        self.assertIn(bool(verdict), (True, False))
+        if table is not None:
+            self.assert_plain(table)
 
     def assert_plain(self, thing):
         """The thing is made of tuples, strings, integers and None alone."""

@@ -21,7 +21,15 @@ FUNCTIONS = {
     "senses": ("sense(size, deed)",),
     "deedpairs": ("short_deed(size, deed)",),
     "smooth": ("judge_smooth(act, start, table)",),
+    "ending": ("judge_ending(act, start, table)",),
+    "wishes": ("judge_keeps(act, start, wish, table)", "judge_never(act, start, wish, table)"),
+    "bounds": ("judge_bound(act, start, table)",),
+    "unseen": ("judge_unseen(act, start, habits, eyes, table)",),
+    "waiting": ("judge_waiting(habits, gesture, manner, patter, watchers, table)",),
+    "blindwait": ("judge_blind(habits, gesture, manner, patter, eyes, table)",),
+    "gaze": ("rehearsed(gaze, deeds)",),
 }
+VERDICT = ("__bool__(self)", "__len__(self)", "__iter__(self)")
 CLASSES = {
     "craft.Craft": ("__init__(self, size, gestures, sleights=())", "__contains__(self, x)", "__len__(self)",
                     "__iter__(self)", "__eq__(self, other)", "meaning_of(self, gesture)", "places_of(self, gesture)",
@@ -40,7 +48,31 @@ CLASSES = {
     "deedpairs.DeedPair": ("__init__(self, size, first, second)", "__bool__(self)"),
     "standings.Standings": ("__init__(self, act, start)", "__len__(self)", "__iter__(self)", "__contains__(self, x)",
                             "__getitem__(self, at)"),
-    "smooth.Smooth": ("__init__(self, act, start)", "__bool__(self)", "__len__(self)", "__iter__(self)"),
+    "smooth.Smooth": ("__init__(self, act, start)",) + VERDICT,
+    "ending.Ending": ("__init__(self, act, start)",) + VERDICT,
+    "wishes.Keeps": ("__init__(self, act, start, wish)",) + VERDICT,
+    "wishes.Reaches": ("__init__(self, act, start, wish)",) + VERDICT,
+    "bounds.Bounded": ("__init__(self, act, start)",) + VERDICT,
+    "habits.Habits": ("__init__(self, craft, rules)", "__eq__(self, other)", "behind(self, gesture, eye)",
+                      "spread(self, gesture, eyes)", "is_safe(self, gesture, manner, eye)"),
+    "unseen.Unseen": ("__init__(self, act, start, habits, eyes)",) + VERDICT,
+    "waiting.Waiting": ("__init__(self, habits, gesture, manner, patter, watchers=1)", "__len__(self)",
+                        "__iter__(self)", "value(self, eyes)", "plan(self, eyes)", "worst(self, eyes, gesture)"),
+    "blindwait.BlindWait": ("__init__(self, habits, gesture, manner, patter, eyes)",) + VERDICT,
+    "gaze.Gaze": ("__init__(self, habits, lot)", "__eq__(self, other)", "see(self, *gestures)",
+                  "safe_for(self, gesture, manner)", "copy(self)"),
+    "gaze.Aside": ("__init__(self, gaze)", "__enter__(self)", "__exit__(self, kind, value, trace)"),
+    "guests.Guest": ("__init__(self, craft, held, known=(), most=0)", "__eq__(self, other)", "mind(self, seen)",
+                     "behind(self, mind, event)", "is_within(self, other)"),
+    "explained.Explained": ("__init__(self, guest, seen)", "__contains__(self, x)", "__len__(self)"),
+}
+PROPERTIES = {
+    "craft.Craft": ("face", "arts"),
+    "acts.Act": ("strokes", "secrets"),
+    "plays.Play": ("events", "rest", "shown", "last", "manners", "price"),
+    "waiting.Waiting": ("trap",),
+    "gaze.Gaze": ("lot",),
+    "guests.Guest": ("beginning",),
 }
 
 
@@ -67,3 +99,16 @@ class TestInterface(Case):
             self.assertEqual(getattr(module_of(name), title).__module__, "shownempty." + name)
             for told in methods:
                 self.listed(told, getattr(module_of(name), title), name)
+
+    def test_properties(self):
+        for path, names in PROPERTIES.items():
+            name, _, title = path.partition(".")
+            for told in names:
+                self.assertIsInstance(vars(getattr(module_of(name), title))[told], property)
+
+    def test_static_and_class_methods(self):
+        methods = vars(module_of("guests").Guest)
+        self.assertIsInstance(methods["cost"], staticmethod)
+        self.assertIsInstance(methods["layman"], classmethod)
+        self.assertEqual(str(inspect.signature(methods["cost"].__func__)), "(mind)")
+        self.assertEqual(str(inspect.signature(methods["layman"].__func__)), "(cls, craft, *worlds)")

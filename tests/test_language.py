@@ -195,6 +195,31 @@ class TestLanguage(unittest.TestCase):
             if node.name == "__len__":
                 self.assertRegex(ast.unparse(node.body[-1]), r"^return len\(", at)
 
+    def test_properties_and_methods_are_not_assigned(self):
+        settable, properties, methods = set(), set(), set()
+        for _, node in self.nodes(ast.FunctionDef):
+            decorators = [ast.unparse(decorator) for decorator in node.decorator_list]
+            if "property" in decorators:
+                properties.add(node.name)
+            if node.name + ".setter" in decorators:
+                settable.add(node.name)
+            if {"staticmethod", "classmethod"} & set(decorators):
+                methods.add(node.name)
+        for at, node in self.nodes(ast.Attribute):
+            if isinstance(node.ctx, ast.Store):
+                self.assertNotIn(node.attr, (properties - settable) | methods, at)
+        for at, node in self.nodes(ast.ClassDef):
+            own = {part.name for part in node.body if isinstance(part, ast.FunctionDef)} - settable
+            for part in ast.walk(node):
+                if isinstance(part, ast.Attribute) and isinstance(part.ctx, ast.Store):
+                    self.assertNotIn(part.attr, own, at)
+
+    def test_the_names_of_generators(self):
+        names = [node.name for _, node in self.nodes(ast.FunctionDef)]
+        for at, node in self.nodes(ast.FunctionDef):
+            if any(isinstance(part, (ast.Yield, ast.YieldFrom)) for part in ast.walk(node)):
+                self.assertEqual(names.count(node.name), 1, at)
+
     def test_names(self):
         every = set(dir(builtins))
         for at, node in self.nodes(ast.Name):
