@@ -135,9 +135,19 @@ def mind_behind(guest, mind, event):
     """As the method, for what is known to be right, with tuples alone."""
     if isinstance(event, str):
         return mind
+    return least_mind([(behind, fewest + sleights) for world, fewest in mind
+                       for _, sleights, behind in guest.steps(world, event) if fewest + sleights <= guest.most])
+
+
+def honest_behind(guest, mind, stroke):
+    """What the honest manner alone leaves of the mind behind a stroke."""
+    return least_mind([(behind, fewest) for world, fewest in mind
+                       for manner, _, behind in guest.steps(world, stroke) if manner == Craft.HONEST])
+
+
+def least_mind(pairs):
+    """The mind with all these worlds, each with the least of its numbers of sleights."""
     least = {}
-    for world, fewest in mind:
-        for _, sleights, behind in guest.steps(world, event):
-            if fewest + sleights <= guest.most:
-                least[behind] = min(fewest + sleights, least.get(behind, MOST_IN_ALL))
+    for world, sleights in pairs:
+        least[world] = min(sleights, least.get(world, sleights))
     return tuple(sorted(least.items()))

@@ -84,13 +84,23 @@ class Play:
 def show_of(act, start, answers):
     """What the act shows from the start for these answers, as far as it asks for them."""
     judge_start(act, start)
+    judge_answers(answers)
+    return shown_by(act, frozen(start), answers)
+
+
+def shown_by(act, start, answers):
+    """As show_of, for what is known to be right, with tuples alone."""
+    entries, last, _ = gone_through(act, start, answers)
+    return (events_of(entries), rest_of(act, last))
+
+
+def judge_answers(answers):
+    """Raises that these are no string of few enough answers."""
     if not is_short_string(answers):
         raise BadAnswer(-1)
     for k, answer in enumerate(answers):
         if not is_answer(answer):
             raise BadAnswer(k)
-    entries, last, _ = gone_through(act, frozen(start), answers)
-    return (events_of(entries), rest_of(act, last))
 
 
 def is_short_string(thing):

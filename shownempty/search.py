@@ -10,25 +10,29 @@ def least_rows(firsts, ways, most, word):
     and where this leads, ascending; either all grow it by one entry, or none does. (Rows are strings or tuples.)
     """
     rows = {}
-    waiting = []
-    fresh = firsts[::-1]
-    k = 0
-    while len(fresh) > 0:
-        row, thing = fresh.pop()
-        if thing not in rows:
-            rows[thing] = row
-            if len(rows) > most:
-                raise TooMany(word)
-            at_once = [(row, behind) for more, behind in ways(thing) if len(more) == 0]
-            fresh.extend(at_once)
-            if len(at_once) == 0:
-                waiting.append(thing)
-        # What can be left by a longer row alone waits: so all things come in the order of their least rows.
-        while len(fresh) == 0 and k < len(waiting):
-            left = waiting[k]
-            fresh = [(rows[left] + more, behind) for more, behind in ways(left)][::-1]
-            k += 1
+    level = firsts
+    while len(level) > 0:
+        # What can be left by a longer row alone waits for the next level.
+        waiting = []
+        fresh = level[::-1]
+        while len(fresh) > 0:
+            row, thing = fresh.pop()
+            if thing not in rows:
+                rows[thing] = row
+                if len(rows) > most:
+                    raise TooMany(word)
+                at_once = [(row, behind) for more, behind in ways(thing) if len(more) == 0]
+                fresh.extend(at_once)
+                if len(at_once) == 0:
+                    waiting.append(thing)
+        # One row can lead to several things that wait: so what comes behind them is not in order by itself.
+        level = sorted([(rows[left] + more, behind) for left in waiting for more, behind in ways(left)], key=row_of)
     return rows
+
+
+def row_of(pair):
+    """The row of a pair of a row and a thing."""
+    return pair[0]
 
 
 def answered(followers):

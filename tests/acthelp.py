@@ -7,6 +7,8 @@ from shownempty.acts import Act
 from shownempty.craft import Craft
 from shownempty.guests import Guest
 from shownempty.habits import Habits
+from shownempty.plots import Plot
+from shownempty.standings import Standings
 from shownempty.worlds import all_worlds
 
 
@@ -103,3 +105,52 @@ def changed_rows(table):
     """The tables in which one row has been left out, with the number of this row."""
     for k in range(len(table)):
         yield k, table[:k] + table[k + 1:]
+
+
+def rich_plays(number, seed=0):
+    """So many acts and starts as above, with sleights and asks, and with at least 5 standings."""
+    for act, start, rng in some_plays(100 * number, seed):
+        if act.secrets and "ask" in [cue[0] for cue in act] and len(Standings(act, start)) >= 5:
+            yield act, start, rng
+            number -= 1
+        if number == 0:
+            return
+
+
+def moved_by(cues, many):
+    """The cues with the numbers of cues in their asks greater by so many."""
+    return [cue if cue[0] != "ask" else ("ask", cue[1] + many, cue[2] + many) for cue in cues]
+
+
+def with_way_out(act):
+    """The act, that only strokes and asks, behind a first ask by which it can also be ended at once."""
+    return Act(act.craft, [("ask", 1, len(act) + 1)] + moved_by(act.cues, 1) + [("end",)])
+
+
+def some_pattern(rng, number):
+    """A pattern with so many items, most of them None."""
+    return tuple([rng.choice((None, None, None, "", "a")) for _ in range(number)])
+
+
+def some_plot_cue(rng, craft, number, many):
+    """A cue of a plot that can have this number among so many."""
+    what = rng.choice(("show", "show", "show", "show", "ask", "ask", "ask", "end"))
+    if number == many - 1 and what == "show":
+        what = rng.choice(("ask", "end"))
+    if what == "show":
+        gesture, _, shown = rng.choice(craft.gestures)
+        return ("show", gesture, [(some_pattern(rng, len(shown)), rng.randint(number + 1, many - 1))
+                                  for _ in range(rng.choice((1, 1, 2, 3)))])
+    if what == "ask":
+        return ("ask", rng.randrange(many), rng.randrange(many))
+    return ("end", some_pattern(rng, craft.size))
+
+
+def some_plots(number, seed=0):
+    """So many pairs of a plot with up to 8 cues and a start, with the source of chance."""
+    rng = random.Random(seed)
+    for _ in range(number):
+        craft = some_craft(rng)
+        many = rng.randint(1, 8)
+        plot = Plot(craft, [some_plot_cue(rng, craft, k, many) for k in range(many)])
+        yield plot, some_start(rng, craft), rng

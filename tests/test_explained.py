@@ -58,6 +58,12 @@ class TestExplained(Case):
         self.assertEqual(Explained(Guest(craft, (("a", ""),), ("ruse", "slip"), 1), (("nod", ("a",)),)).first,
                          (("a", ""), ("ruse",)))
 
+    def test_a_manner_that_later_needs_too_many_sleights_is_none(self):
+        # Who thinks of two sleights can also think that the coin was kept and another one loaded.
+        seen = (PASS, FULL)
+        self.assertEqual(Explained(Guest(coin_craft(), (BOTH,), ("keep", "load"), 1), seen).sure, ("", ""))
+        self.assertEqual(Explained(Guest(coin_craft(), (BOTH,), ("keep", "load"), 2), seen).sure, (None, None))
+
     def test_attributes(self):
         seen = as_lists((PASS, "0", EMPTY))
         explained = Explained(seen=seen, guest=self.guest)

@@ -167,6 +167,9 @@ class TestGuest(Case):
                               (Guest(craft.without("load"), (COIN,), ("keep",), 1), False)):
             self.assertIs(less.is_within(other), within)
         self.assertIs(self.guest.is_within(less), False)
+        for other in (Guest(craft, (COIN,), ("keep", "load"), 2), Guest(craft, (PASSED, COIN), ("keep",), 2)):
+            self.assertIs(self.guest.is_within(other), False)
+            self.assertIs(other.is_within(self.guest), True)
         self.assertIs(Guest(craft, (COIN,)).is_within(less), True)
 
     def test_who_knows_more_has_all_explanations(self):

@@ -28,6 +28,13 @@ FUNCTIONS = {
     "waiting": ("judge_waiting(habits, gesture, manner, patter, watchers, table)",),
     "blindwait": ("judge_blind(habits, gesture, manner, patter, eyes, table)",),
     "gaze": ("rehearsed(gaze, deeds)",),
+    "wonders": ("judge_wonder(act, start, guest, table)",),
+    "calm": ("judge_calm(act, start, guest, table)",),
+    "uncaught": ("judge_uncaught(act, start, guest, table)",),
+    "spoilers": ("spoilers(act, start, held, most)",),
+    "showings": ("fewest_showings(act, start, held, known, length)",),
+    "classes": ("settled(act, held, known)",),
+    "actpairs": ("judge_pairs(first, start, second, other, table)",),
 }
 VERDICT = ("__bool__(self)", "__len__(self)", "__iter__(self)")
 CLASSES = {
@@ -65,6 +72,18 @@ CLASSES = {
     "guests.Guest": ("__init__(self, craft, held, known=(), most=0)", "__eq__(self, other)", "mind(self, seen)",
                      "behind(self, mind, event)", "is_within(self, other)"),
     "explained.Explained": ("__init__(self, guest, seen)", "__contains__(self, x)", "__len__(self)"),
+    "wonders.Wonder": ("__init__(self, act, start, guest)",) + VERDICT,
+    "calm.Calm": ("__init__(self, act, start, guest)",) + VERDICT,
+    "uncaught.Uncaught": ("__init__(self, act, start, guest)",) + VERDICT,
+    "fillings.Fillings": ("__init__(self, act, held, known)", "__len__(self)", "__iter__(self)",
+                          "__contains__(self, x)", "__getitem__(self, at)", "filled(self, filling)",
+                          "show(self, filling, answers)"),
+    "lasting.Lasting": ("__init__(self, act, start, held, known)", "fitting(self, *shows)",
+                        "parting(self, filling)") + VERDICT,
+    "classes.Classes": ("__init__(self, act, held, known, length)", "__len__(self)", "__iter__(self)"),
+    "actpairs.ActPair": ("__init__(self, first, start, second, other)",) + VERDICT,
+    "making.Making": ("__init__(self, plot, start)", "__getitem__(self, at)", "delay(self, standing)",
+                      "forced(self, standing, times)", "method(self, standing)") + VERDICT,
 }
 PROPERTIES = {
     "craft.Craft": ("face", "arts"),

@@ -69,6 +69,8 @@ def is_literal(node):
         return all(is_literal(part) for part in node.elts)
     if isinstance(node, ast.Dict):
         return all(is_literal(part) for part in node.keys + node.values)
+    if isinstance(node, ast.UnaryOp) and isinstance(node.op, ast.USub):
+        return isinstance(node.operand, ast.Constant)
     return isinstance(node, (ast.Constant, ast.Name))
 
 

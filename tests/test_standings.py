@@ -15,13 +15,13 @@ COIN = ("a", "", "")
 BAD_WORLDS = NO_TUPLES + (("", ""), ("",) * 4, ["ba", "", ""], (True, "", ""), ("aaaaa", "aaaa", ""), (None, "", ""))
 
 
-def many_standings(nods):
-    """An act and a start with 590 standings, and one more for each of the nods ahead of all.
+def many_standings(nods, inner=19):
+    """An act and a start with 115 standings, 25 for each inner nod, and one more for each of the nods ahead of all.
 
     Four of each of two kinds go over, one by one, as the guests ask for them.
     """
     craft = Craft(2, (("nod", (), ()), ("left", (("a", 0, 1),), ()), ("right", (("b", 0, 1),), ())))
-    ask = nods + 19
+    ask = nods + inner
     cues = [("do", "nod", "")] * ask
     cues.extend([("ask", ask + 1, ask + 3), ("do", "left", ""), ("ask", nods, nods)])
     cues.extend([("do", "right", ""), ("ask", nods, nods)])
