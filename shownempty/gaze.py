@@ -45,9 +45,10 @@ class Gaze:
 
 
 class Held:
-    """What an aside keeps for each block that has been entered: the lot, and what was kept before."""
+    """What an aside keeps for each block that has been entered: what the gaze was, and what was kept before."""
 
-    def __init__(self, kept, before):
+    def __init__(self, habits, kept, before):
+        self.habits = habits
         self.kept = kept
         self.before = before
 
@@ -57,14 +58,15 @@ class Aside:
 
     def __init__(self, gaze):
         self.gaze = gaze
-        self._held = Held(None, None)
+        self._held = Held(None, None, None)
 
     def __enter__(self):
-        self._held = Held(self.gaze.lot, self._held)
+        self._held = Held(self.gaze.habits, self.gaze.lot, self._held)
         return self.gaze
 
     def __exit__(self, kind, value, trace):
         gaze = self.gaze
+        gaze.habits = self._held.habits
         gaze._lot = self._held.kept
         self._held = self._held.before
 

@@ -107,6 +107,14 @@ def as_lists(thing):
     return thing
 
 
+def partly_lists(thing, at=1):
+    """The thing with lists in the place of every other one of its tuples, so that they stand side by side."""
+    if isinstance(thing, (tuple, list)):
+        parts = [partly_lists(part, at + k) for k, part in enumerate(thing)]
+        return tuple(parts) if at % 2 else parts
+    return thing
+
+
 def spoil(thing):
     """Empties the lists in a thing, at every depth."""
     if isinstance(thing, list):

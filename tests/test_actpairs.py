@@ -228,12 +228,21 @@ class TestJudged(Case):
 
     def test_rows_of_another_form(self):
         rows = [(thing, (0, COIN)) for thing in NO_STANDINGS] + [((0, COIN), thing) for thing in NO_STANDINGS]
-        rows.extend([((1, COIN), (0, COIN)), ((0, COIN), (1, COIN)), ((0, COIN), (2, COIN)), ((3, COIN), (3, COIN)),
+        rows.extend([((1, COIN), (0, COIN)), ((0, COIN), (1, COIN)), ((1, COIN), (1, COIN)), ((0, COIN), (2, COIN)),
+                     ((3, COIN), (3, COIN)), ((2, COIN), (2, COIN)), ((1, PASSED), (1, PASSED)),
                      ((2, COIN), (4, COIN)), ((0, COIN),), ((0, COIN), (0, COIN), 0), (0, COIN)])
         for row in rows + list(NO_TUPLES):
             self.assertEqual(self.judge(self.table + (row,)), 2)
             self.assertEqual(self.judge((row,) + self.table), 0)
             self.assertEqual(self.judge((row,) + self.table[1:]), -1)
+
+    def test_standings_at_no_ask_are_no_pair(self):
+        # At an end and where it is stuck nothing is lacking behind them.
+        act = Act(coin_craft(), (("ask", 1, 2), ("do", "pass", ""), END))
+        table = ActPair(act, COIN, act, COIN).table
+        self.assertEqual(table, (((0, COIN), (0, COIN)),))
+        for standing in ((1, COIN), (1, PASSED), (2, COIN)):
+            self.judged(lambda rows: judge_pairs(act, COIN, act, COIN, rows), table + ((standing, standing),), 1)
 
     def test_each_row_left_out_is_noticed(self):
         for act, start, _ in rich_plays(100, 72):

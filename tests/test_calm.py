@@ -3,7 +3,7 @@ from shownempty.calm import Calm, judge_calm
 from shownempty.errors import BadWorld, TooMany, Unlike
 from shownempty.guests import Guest
 from tests.acthelp import changed_rows, rich_plays, some_guest, some_plays
-from tests.helpers import NO_STANDINGS, Case, as_lists, coin_act, coin_craft, spoil
+from tests.helpers import NO_STANDINGS, Case, as_lists, coin_act, coin_craft, partly_lists, spoil
 from tests.test_standings import BAD_WORLDS, many_standings
 from tests.test_wonders import bad_minds, thoughts_behind
 
@@ -117,6 +117,7 @@ class TestJudged(Case):
         self.judged(self.judge, self.TABLE, None)
         self.judged(self.judge, self.TABLE[::-1] + self.TABLE, None)
         self.assertIsNone(judge_calm(self.act, list(COIN), self.guest, as_lists(self.TABLE)))
+        self.assertIsNone(judge_calm(self.act, list(COIN), self.guest, partly_lists(self.TABLE)))
 
     def test_rows_left_out(self):
         for k, rows in changed_rows(self.TABLE):

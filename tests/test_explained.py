@@ -89,10 +89,14 @@ class TestExplained(Case):
                       (COIN, ("keep",)), (COIN, ("keep", "", "")), (COIN, ("keep", "load")), (COIN, "keep"), (COIN,),
                       (COIN, ("keep", ""), 0), (("a", ""), ("keep", "")), (COIN, (None, "")), (COIN, (True, "")), ()):
             self.assertIs(thing in explained, False)
-        for thing in NO_TUPLES + tuple((COIN, (name, "")) for name in NO_STRINGS):
+        for name in NO_STRINGS:
+            self.assertIs((COIN, (name, "")) in explained, False)
+            self.assertIs((COIN, ("keep", name)) in explained, False)
+        for thing in NO_TUPLES:
             self.assertIs(thing in explained, False)
             self.assertIs((thing, ("keep", "")) in explained, False)
             self.assertIs((COIN, thing) in explained, False)
+            self.assertIs((COIN, (thing, "")) in explained, False)
 
     def test_the_most_bounds_what_is_one(self):
         seen = (PASS, PASS, PASS)

@@ -98,6 +98,13 @@ class TestAside(Case):
                 raise Stop
         self.assertEqual(self.gaze.lot, (0,))
 
+    def test_the_habits_are_what_they_were(self):
+        habits = self.gaze.habits
+        with Aside(self.gaze):
+            self.gaze.habits = Habits(coin_craft(), ())
+            self.assertEqual(self.gaze.see("pass"), (0,))
+        self.assertIs(self.gaze.habits, habits)
+
     def test_within_one_another(self):
         with Aside(self.gaze):
             self.gaze.lot = (1,)

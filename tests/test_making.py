@@ -126,6 +126,16 @@ class TestMaking(Case):
         self.assertEqual((making.least, making.method((0, ("a", "")))), (-1, ("", 0)))
         self.assertEqual((making[0, ("", "a")], making.method((0, ("", "a")))), (-1, ("slip", 0)))
 
+    def test_values_of_what_cannot_be_picked_are_no_prices(self):
+        # Behind the dearer ways there is no bound, or a loss: what is told for these (-1, -2) adds up to the value.
+        craft = Craft(2, (("nod", (("z", 0, 1),), ()),), (("four", "nod", (), 4, ()), ("three", "nod", (), 3, ()),
+                                                        ("two", "nod", (), 2, ())))
+        plot = Plot(craft, (("show", "nod", (((), 1), ((), 4), ((), 3))), ("show", "nod", (((), 2),)), ("ask", 1, 1),
+                            ("end", ("a", "")), ("end", ("", "a"))))
+        making = Making(plot, ("a", ""))
+        self.assertEqual([value for _, value in making], [2, -1, -1, 0, -2])
+        self.assertEqual(making.method((0, ("a", ""))), ("two", 2))
+
     def test_loops_that_cost_nothing(self):
         plot = read_plot(coin_craft(), ("show open - 1", "ask 0 2", "show pass . 3", "end ?,?,?"))
         making = Making(plot, COIN)
