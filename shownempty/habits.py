@@ -1,6 +1,7 @@
 """Habits: where the eyes of guests are led by gestures."""
 
-from shownempty.errors import BadEye, BadEyes, BadHabit, NoGesture, Twice
+from shownempty.craft import judge_names
+from shownempty.errors import BadEye, BadEyes, BadHabit, NoGesture
 from shownempty.forms import frozen, is_lot, is_row, is_whole
 
 
@@ -50,10 +51,7 @@ def judge_rules(craft, rules):
     for k, rule in enumerate(rules):
         if not is_rule(craft, rule):
             raise BadHabit(k)
-    names = [rule[0] for rule in rules]
-    for k, name in enumerate(names):
-        if name in names[:k]:
-            raise Twice(name)
+    judge_names([rule[0] for rule in rules])
 
 
 def is_rule(craft, thing):
