@@ -86,10 +86,7 @@ class Craft:
 
     def without(self, *sleights):
         """The craft that has forgotten these sleights."""
-        arts = self.arts
-        for name in sleights:
-            if not isinstance(name, str) or name not in arts:
-                raise NoSleight(name)
+        judge_arts(self, sleights)
         kept = [sleight for sleight in self.sleights if sleight[0] not in sleights]
         return Craft(self.size, self.gestures, kept)
 
@@ -134,6 +131,14 @@ def judge_names(names):
     for k, name in enumerate(names):
         if name in names[:k]:
             raise Twice(name)
+
+
+def judge_arts(craft, names):
+    """Raises the first of the names that is none of a sleight of the craft."""
+    arts = craft.arts
+    for name in names:
+        if not isinstance(name, str) or name not in arts:
+            raise NoSleight(name)
 
 
 def is_gesture(thing, size):

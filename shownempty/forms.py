@@ -28,9 +28,12 @@ def begins_with_word(thing):
 
 def is_lot(thing, low, high):
     """Whether it is a lot of integers from low to high."""
-    if not is_row(thing) or not all([is_whole(part, low, high) for part in thing]):
-        return False
-    return all([thing[k] < thing[k + 1] for k in range(len(thing) - 1)])
+    return is_row(thing) and all([is_whole(part, low, high) for part in thing]) and is_ascending(thing)
+
+
+def is_ascending(things):
+    """Whether each of the things is greater than the one ahead of it."""
+    return all([things[k] < things[k + 1] for k in range(len(things) - 1)])
 
 
 def is_kind(thing):

@@ -3,9 +3,9 @@
 from shownempty.acts import is_standing, judge_start
 from shownempty.errors import BadTimes, NoStanding
 from shownempty.forms import frozen, is_whole
-from shownempty.games import LOST, MEETS, NO_BOUND, PICKS, delays_of, forced_further, values_of
+from shownempty.games import LOST, MEETS, PICKS, delays_of, forced_further, is_reached, values_of
 from shownempty.plots import ways_on
-from shownempty.search import least_rows
+from shownempty.search import reached_from
 from shownempty.worlds import fits
 
 MOST_STANDINGS = 600
@@ -56,10 +56,8 @@ class Making:
     def method(self, standing):
         """The option by which the value of the standing is reached, None if it is lost or at no show."""
         known = self._standing(standing)
-        value = self._values[known]
         for option, price, behind in choices_at(self.plot, known):
-            after = self._values[behind]
-            if value == NO_BOUND and after != LOST or value >= 0 and after >= 0 and value == price + after:
+            if is_reached(self._values[known], price, self._values[behind]):
                 return option
         return None
 
@@ -89,9 +87,14 @@ def turn_at(plot, standing):
 
 def game_of(plot, start):
     """The turns at the standings of the plot, the last cues first; raises that these are too many."""
-    def ways(standing):
-        return [("", behind) for _, behind in turn_at(plot, standing)[1]]
+    def leads(standing):
+        return [behind for _, behind in turn_at(plot, standing)[1]]
 
-    standings = list(least_rows([("", (0, start))], ways, MOST_STANDINGS, "standing"))
+    standings = reached_from((0, start), leads, MOST_STANDINGS, "standing")
     # At a show the target is a later cue.
-    return {standing: turn_at(plot, standing) for standing in sorted(standings, reverse=True)}
+    return {standing: turn_at(plot, standing) for standing in sorted(list(standings), reverse=True)}
+
+
+def can_be_done(plot, start):
+    """Whether the plot can be done from the start; raises that its standings are too many."""
+    return (0, start) not in delays_of(game_of(plot, start))

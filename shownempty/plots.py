@@ -105,12 +105,16 @@ def ways_on(plot, standing):
     cue = plot.cues[number]
     if cue[0] != "show":
         return []
-    _, gesture, outs = cue
     ways = []
-    for manner in plot.craft.manners_of(gesture):
-        behind = moved(world, plot.craft.deed_of(gesture, manner))
+    for manner in plot.craft.manners_of(cue[1]):
+        behind = moved(world, plot.craft.deed_of(cue[1], manner))
         if behind is not None:
-            sight = sight_of(plot.craft, gesture, behind)
-            ways.extend([((manner, k), (target, behind)) for k, (pattern, target) in enumerate(outs)
-                         if fits(sight, pattern)])
+            ways.extend([((manner, out), (target, behind)) for out, target in outs_fit_for(plot, number, behind)])
     return ways
+
+
+def outs_fit_for(plot, number, world):
+    """The outs of a show whose sights are fit if this world has come behind it, each with its target."""
+    _, gesture, outs = plot.cues[number]
+    sight = sight_of(plot.craft, gesture, world)
+    return [(out, target) for out, (pattern, target) in enumerate(outs) if fits(sight, pattern)]

@@ -1,6 +1,23 @@
-"""All that can be reached from something, each with the least row that leads to it."""
+"""All that can be reached from something, also with the least row that leads to each."""
 
 from shownempty.errors import TooMany
+
+
+def reached_from(first, leads, most, word):
+    """All that can be reached from the first thing, each with the things to which it leads.
+
+    TooMany(word) if more than most can; there is no most if it is None.
+    """
+    found = {}
+    waiting = [first]
+    while len(waiting) > 0:
+        thing = waiting.pop()
+        if thing not in found:
+            found[thing] = leads(thing)
+            if most is not None and len(found) > most:
+                raise TooMany(word)
+            waiting.extend(found[thing])
+    return found
 
 
 def least_rows(firsts, ways, most, word):

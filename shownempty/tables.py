@@ -24,8 +24,12 @@ def is_numbered(act, row):
 
 def numbers_in(act, table):
     """The number of each standing, as the first of its rows that is a pair with an integer from 0 tells it."""
+    return first_numbers([row for row in table if is_numbered(act, row)])
+
+
+def first_numbers(rows):
+    """The number of each thing, as the first of its rows tells it."""
     numbers = {}
-    for row in table:
-        if is_numbered(act, row):
-            numbers.setdefault(frozen(row[0]), row[1])
+    for thing, number in rows:
+        numbers.setdefault(frozen(thing), number)
     return numbers

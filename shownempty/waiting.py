@@ -2,7 +2,7 @@
 
 from shownempty.errors import BadEyes, BadMany, BadPatter, NoGesture
 from shownempty.forms import frozen, is_from, is_row, is_whole
-from shownempty.tables import first_wrong
+from shownempty.tables import first_numbers, first_wrong
 
 MOST_PATTER = 8
 MOST_WATCHERS = 3
@@ -133,10 +133,7 @@ def judge_waiting(habits, gesture, manner, patter, watchers, table):
     """None if the table is right, -1 if some eyes are lacking, otherwise the number of the first bad row."""
     judge_sleight_and_patter(habits, gesture, manner, patter)
     judge_watchers(watchers)
-    values = {}
-    for row in table:
-        if is_valued(habits, watchers, row):
-            values.setdefault(frozen(row[0]), row[1])
+    values = first_numbers([row for row in table if is_valued(habits, watchers, row)])
     if not all([eyes in values for eyes in all_eyes(habits.craft.size, watchers)]):
         return -1
     return first_wrong([is_valued(habits, watchers, row)
