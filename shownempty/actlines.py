@@ -20,7 +20,12 @@ def write_act(act):
 
 def read_act(craft, lines):
     """The act of this craft that the lines tell."""
-    return Act(craft, [read_cue(number, line) for number, line in enumerate(lines)])
+    return Act(craft, read_act_cues(lines, 0))
+
+
+def read_act_cues(lines, first):
+    """The cues that the lines tell, if the first one has this number."""
+    return [read_cue(number, line) for number, line in enumerate(lines, start=first)]
 
 
 def read_cue(number, line):

@@ -19,25 +19,31 @@ def write_craft(craft):
 
 def read_craft(lines):
     """The craft that the lines tell."""
+    size, gestures, sleights = read_craft_parts(lines, 0)
+    return Craft(size, gestures, sleights)
+
+
+def read_craft_parts(lines, first):
+    """The size, the gestures and the sleights that the lines tell, if the first one has this number."""
     if len(lines) == 0:
-        raise BadLine(0, 0)
-    size = read_size(lines[0])
+        raise BadLine(first, 0)
+    size = read_size(first, lines[0])
     gestures = []
     sleights = []
-    for number in range(1, len(lines)):
-        words = split_line(number, lines[number])
+    for number, line in enumerate(lines[1:], start=first + 1):
+        words = split_line(number, line)
         if words[0] == "gesture" and len(sleights) == 0:
             gestures.append(read_words(number, words, GESTURE_FORMS))
         elif words[0] == "sleight":
             sleights.append(read_words(number, words, SLEIGHT_FORMS))
         else:
             raise BadLine(number, 0)
-    return Craft(size, gestures, sleights)
+    return (size, gestures, sleights)
 
 
-def read_size(line):
+def read_size(number, line):
     """The size that the first line of a craft tells."""
-    words = split_line(0, line)
+    words = split_line(number, line)
     if words[0] != "craft":
-        raise BadLine(0, 0)
-    return read_words(0, words, CRAFT_FORMS)[0]
+        raise BadLine(number, 0)
+    return read_words(number, words, CRAFT_FORMS)[0]

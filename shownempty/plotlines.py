@@ -29,7 +29,12 @@ def write_cue(cue):
 
 def read_plot(craft, lines):
     """The plot of this craft that the lines tell."""
-    return Plot(craft, [read_cue(number, line) for number, line in enumerate(lines)])
+    return Plot(craft, read_plot_cues(lines, 0))
+
+
+def read_plot_cues(lines, first):
+    """The cues that the lines tell, if the first one has this number."""
+    return [read_cue(number, line) for number, line in enumerate(lines, start=first)]
 
 
 def read_cue(number, line):

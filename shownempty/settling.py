@@ -12,15 +12,30 @@ def levels_of(fillings):
     passages = {manners: Passages(act) for manners, act in acts_of(fillings).items()}
     firsts = [shown_by_run(manners, passages[manners].from_start(world)) for world, manners in fillings]
     behind = all_behind(passages, firsts)
+    return [number_of_classes(firsts, labels) for labels in labels_by_length(behind)]
+
+
+def labels_by_length(behind):
+    """For the lengths 0, 1, .. labels of rests at an ask: the same one for those that no row of the length parts.
+
+    Behind each rest are told, for each answer, triples of the events of a run, its rest, and what comes there; it is
+    one of the rests that are told if this is at an ask, too, and otherwise none of them.
+    """
+    shown = numbered({rest: tuple([run[:2] for run in runs]) for rest, runs in behind.items()})
     labels = {rest: 0 for rest in behind}
-    levels = [number_of_classes(firsts, labels)]
+    yield labels
     many = 0
     # Each round parts the rests by rows that are longer by one. Once it parts no more of them, no later one does.
-    while len(set(list(labels.values()))) > many:
-        many = len(set(list(labels.values())))
-        labels = numbered({rest: tuple([labelled(run, labels) for run in runs]) for rest, runs in behind.items()})
-        levels.append(number_of_classes(firsts, labels))
-    return levels
+    while number_of_different(labels) > many:
+        many = number_of_different(labels)
+        labels = numbered({rest: (shown[rest],) + tuple([labels.get(run[2]) for run in runs])
+                           for rest, runs in behind.items()})
+        yield labels
+
+
+def number_of_different(labels):
+    """How many different labels there are."""
+    return len(set(list(labels.values())))
 
 
 def shown_by_run(manners, passage):

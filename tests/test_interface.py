@@ -1,4 +1,4 @@
-"""The names, arguments and places of what the document's interface lists, as far as it has been built."""
+"""The names, arguments and places of what the document's interface lists."""
 
 import importlib
 import inspect
@@ -35,6 +35,22 @@ FUNCTIONS = {
     "showings": ("fewest_showings(act, start, held, known, length)",),
     "classes": ("settled(act, held, known)",),
     "actpairs": ("judge_pairs(first, start, second, other, table)",),
+    "judging": ("judge_prices(plot, start, table)", "judge_losses(plot, start, table)",
+                "judge_dear(plot, start, table)"),
+    "written": ("written(plot, start)",),
+    "hidings": ("hidings(plot, start, extras, most)",),
+    "lessons": ("lessons(plot, start)",),
+    "slipgames": ("judge_slips(plot, risks, start, most, table)",),
+    "borne": ("borne(plot, risks, start)", "exercises(plot, risks, start)"),
+    "judgestands": ("judge_stand(act, start, guest, wish, challenges, most, table)",
+                    "judge_catch(act, start, guest, wish, challenges, most, table)"),
+    "bearing": ("bears(act, start, guest, wish, challenges)",),
+    "needed": ("needed_lots(act, start)",),
+    "programmes": ("order_value(evening, order, world=None)", "cheapest_programme(evening)"),
+    "residence": ("judge_worlds(evening, table)", "judge_delays(evening, table)"),
+    "forces": ("judge_force(force, table)",),
+    "steady": ("steady(force)",),
+    "journal": ("write_journal(house)", "read_journal(lines)", "taken_up(lines)"),
 }
 VERDICT = ("__bool__(self)", "__len__(self)", "__iter__(self)")
 CLASSES = {
@@ -84,6 +100,31 @@ CLASSES = {
     "actpairs.ActPair": ("__init__(self, first, start, second, other)",) + VERDICT,
     "making.Making": ("__init__(self, plot, start)", "__getitem__(self, at)", "delay(self, standing)",
                       "forced(self, standing, times)", "method(self, standing)") + VERDICT,
+    "risks.Risks": ("__init__(self, craft, fails)", "__eq__(self, other)", "fail_of(self, sleight)",
+                    "practised(self, *sleights)"),
+    "slipgames.SlipGame": ("__init__(self, plot, risks, start, most)", "__getitem__(self, at)", "pick(self, position)",
+                           "out(self, position, manner, slipped=False)",
+                           "performance(self, answers, *, slips=())") + VERDICT,
+    "stands.Stand": ("__init__(self, act, start, guest, wish, challenges, *, most=None)", "delay(self, situation)",
+                     "answered(self, situation, answer)", "meetings(self, situation, gesture)",
+                     "reply(self, situation, gesture)", "catch(self, situation)") + VERDICT,
+    "machines.Machine": ("__init__(self, act, start)", "__len__(self)", "__iter__(self)", "__getitem__(self, at)",
+                         "__eq__(self, other)", "show(self, answers)"),
+    "renaming.Renaming": ("__init__(self, places, kinds=())", "__eq__(self, other)", "__mul__(self, other)",
+                          "__call__(self, world)", "of_place(self, place)", "of_kind(self, kind)", "of_deed(self, deed)",
+                          "of_pattern(self, pattern)", "of_craft(self, craft)", "of_act(self, act)", "of_plot(self, plot)",
+                          "of_seen(self, craft, seen)", "undone(self)"),
+    "evenings.Evening": ("__init__(self, pieces, pockets, start)", "__len__(self)", "__iter__(self)",
+                         "__contains__(self, x)", "is_good(self, name, world)", "ends(self, name, world)",
+                         "preparing(self, world, goal)", "value(self, world, left)", "prepared(self, world, left, name)"),
+    "residence.Residence": ("__init__(self, evening)",) + VERDICT,
+    "forces.Force": ("__init__(self, many, outs, questions)", "__eq__(self, other)"),
+    "forces.ForceGame": ("__init__(self, force)", "value(self, left, still)", "plan(self, left, still)",
+                         "reading(self, left, still, number, part)") + VERDICT,
+    "house.House": ("__init__(self)", "keep_craft(self, name, craft)", "keep_act(self, name, of, act)",
+                    "keep_plot(self, name, of, plot)", "strike(self, name)", "undo(self)", "redo(self)",
+                    "__getitem__(self, at)", "__contains__(self, x)", "__len__(self)", "__iter__(self)",
+                    "craft_of(self, name)", "copy(self)", "__eq__(self, other)"),
 }
 PROPERTIES = {
     "craft.Craft": ("face", "arts"),
@@ -92,6 +133,9 @@ PROPERTIES = {
     "waiting.Waiting": ("trap",),
     "gaze.Gaze": ("lot",),
     "guests.Guest": ("beginning",),
+    "risks.Risks": ("risky",),
+    "stands.Stand": ("beginning",),
+    "house.House": ("deeds",),
 }
 
 
