@@ -116,22 +116,24 @@ def met_from(parlour, most, situation, gesture):
     return [(manner, behind + (counted(made, most),)) for manner, behind in parlour.met(thought, gesture)]
 
 
-def stand_game(parlour, start, most):
-    """The game among the situations, and behind them the challenges that may be named there.
-
-    Raises that the situations are too many.
-    """
+def situations_of(parlour, start, most):
+    """All situations, ascending; raises that they are too many."""
     def leads(situation):
-        met = [behind for gesture in named_at(parlour, most, situation)
-               for _, behind in met_from(parlour, most, situation, gesture)]
+        met = [behind for name in named_at(parlour, most, situation)
+               for _, behind in met_from(parlour, most, situation, name)]
         return answered_from(parlour, situation) + met
 
-    situations = reached_from(first_situation(parlour, start), leads, MOST_SITUATIONS, "situation")
+    first = first_situation(parlour, start)
+    return tuple(sorted(list(reached_from(first, leads, MOST_SITUATIONS, "situation"))))
+
+
+def stand_game(parlour, situations, most):
+    """The game among the situations, and behind them the challenges that may be named there."""
     game = {}
     for situation in situations:
         answers = [(0, behind) for behind in answered_from(parlour, situation)]
         named = named_at(parlour, most, situation)
-        moves = answers + [(0, (situation, gesture)) for gesture in named]
+        moves = answers + [(0, (situation, name)) for name in named]
         game[situation] = (PICKS, []) if is_broken(parlour, situation) else (MEETS, moves)
         for gesture in named:
             met = met_from(parlour, most, situation, gesture)

@@ -18,7 +18,7 @@ class Residence:
         self.table = lost if evening.start in self._delays else sound
 
     def __bool__(self):
-        return self.evening.start not in self._delays
+        return bool(self.evening.start not in self._delays)
 
     def __len__(self):
         return len(self.table)

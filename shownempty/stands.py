@@ -5,7 +5,7 @@ from shownempty.forms import frozen
 from shownempty.games import delays_of
 from shownempty.limits import judge_limit
 from shownempty.parlour import Parlour, answered_from, first_situation, is_broken, is_situation, judge_parlour
-from shownempty.parlour import met_from, named_at, stand_game
+from shownempty.parlour import met_from, named_at, situations_of, stand_game
 from shownempty.plays import is_answer
 
 
@@ -22,10 +22,10 @@ class Stand:
         self.wish = self._parlour.wish
         self.challenges = self._parlour.challenges
         self.most = most
-        self._game = stand_game(self._parlour, self.start, most)
-        self._delays = delays_of(self._game)
+        situations = situations_of(self._parlour, self.start, most)
         self._first = first_situation(self._parlour, self.start)
-        situations = sorted([thing for thing in self._game if len(thing) == 4])
+        self._there = {situation: True for situation in situations}
+        self._delays = delays_of(stand_game(self._parlour, situations, most))
         sound = tuple([situation for situation in situations if situation not in self._delays])
         lost = tuple([(situation, self._delays[situation]) for situation in situations if situation in self._delays])
         self.table = lost if self._first in self._delays else sound
@@ -36,7 +36,7 @@ class Stand:
         return self._first
 
     def __bool__(self):
-        return self._first not in self._delays
+        return bool(self._first not in self._delays)
 
     def __len__(self):
         return len(self.table)
@@ -83,6 +83,6 @@ class Stand:
         return [move for delay, move in left if delay == least][0]
 
     def _situation(self, thing):
-        if not is_situation(self.act, self.guest, self.most, thing) or frozen(thing) not in self._game:
+        if not is_situation(self.act, self.guest, self.most, thing) or frozen(thing) not in self._there:
             raise NoSituation(thing)
         return frozen(thing)

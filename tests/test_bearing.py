@@ -90,7 +90,7 @@ class TestBears(Case):
 
     def test_many_stands(self):
         told = set()
-        for stands in (some_stands(200, 86), restless_stands(100, 87)):
+        for stands in (some_stands(120, 86), restless_stands(60, 87)):
             for args, _ in stands:
                 try:
                     found = bears(*args)

@@ -288,7 +288,7 @@ class TestJudged(Case):
         self.assertIsNotNone(judge_force(ONE_MORE, table[1:]))
 
     def test_many_forces(self):
-        for force, rng in some_forces(150, 131):
+        for force, rng in some_forces(60, 131):
             table = ForceGame(force).table
             self.assertIsNone(judge_force(force, table))
             for k, rows in changed_rows(table):
