@@ -7,7 +7,7 @@ from shownempty.deeds import done
 from shownempty.plots import Plot
 from shownempty.risks import Risks
 from shownempty.worlds import fits
-from tests.acthelp import some_deed, some_plots, some_start
+from tests.acthelp import some_deed, some_plots
 
 
 def some_risks(rng, craft):

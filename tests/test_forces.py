@@ -116,6 +116,8 @@ class TestForceGame(Case):
             self.refused(NoStage((ALL, still)), self.game.value, ALL, still)
             self.refused(NoStage((ALL, still)), self.game.plan, ALL, still)
             self.refused(NoStage((ALL, still)), self.game.reading, ALL, still, None, None)
+        for left, still in (((False,), ()), ((0, 1), (True,)), ((False, 2), [False])):
+            self.refused(NoStage((left, still)), self.game.value, left, still)
         left, still = [0, 3], [1]
         raised = self.refused(NoStage((left, still)), self.game.value, left, still)
         self.assertIs(raised.stage[0], left)
@@ -271,6 +273,8 @@ class TestJudged(Case):
         rows = [(left, (0, 1), 2) for left in NO_LOTS] + [(ALL, still, 2) for still in NO_LOTS[:len(NO_TUPLES)]]
         rows.extend([(ALL, (2,), 2), (ALL, (1, 0), 2), (ALL, (0, 0), 2), (ALL, (True,), 2), (ALL, (-1,), 2)])
         rows.extend([stage + (value,) for value in NO_INTEGERS + (-2,)])
+        # True and False are no integers, though these rows would be right with 1 and 0.
+        rows.extend([((0, 1), (1,), True), ((0,), (), False), ((0, 1), (True,), 1), ((False, True), (1,), 1)])
         for row in rows + list(NO_TUPLES) + [(), stage, stage + (2, 2), (stage, 2)]:
             self.assertEqual(self.judge(TABLE + (row,)), 9)
             self.assertEqual(self.judge((row,) + TABLE), 0)

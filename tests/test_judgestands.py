@@ -228,12 +228,15 @@ class TestDelays(Case):
         self.judged(judge, ((end, 0), (first, 1), (first, 0)), 2)
 
     def test_rows_of_another_form(self):
+        # No end is as it is wished: so all ends would be right with any delay.
+        judge = lambda table: judge_catch(self.act, COIN, self.guest, ("z", None, None), ("open",), 1, table)
+        self.judged(judge, LOST + (((2, BOTH, THINKS, 1), 0),), None)
         rows = [(row, 0) for row in bad_situations()] + bad_situations()
-        rows.extend((LOST[0][0], number) for number in NO_INTEGERS + (-1,))
+        rows.extend((LOST[k][0], number) for k in (0, 1) for number in NO_INTEGERS + (-1,))
         for row in rows + [LOST[0][0], (LOST[0][0],), LOST[0] + (0,)]:
-            self.assertEqual(self.judge(LOST + (row,)), 2)
-            self.assertEqual(self.judge((row,) + LOST), 0)
-            self.assertEqual(self.judge((row,) + LOST[1:]), -1)
+            self.assertEqual(judge(LOST + (row,)), 2)
+            self.assertEqual(judge((row,) + LOST), 0)
+            self.assertEqual(judge((row,) + LOST[1:]), -1)
 
     def test_the_first_one_is_lacking(self):
         self.judged(self.judge, (), -1)

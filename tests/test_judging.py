@@ -257,7 +257,9 @@ class TestAll(Case):
 
     def test_rows_of_another_form(self):
         for judge, plot, start, table in self.tables():
-            rows = [(row, 0) for row in NO_STANDINGS] + [((0, start), number) for number in NO_INTEGERS + (-1,)]
+            # The last row is right with any number.
+            rows = [(row, 0) for row in NO_STANDINGS]
+            rows.extend([(standing, number) for standing in ((0, start), table[-1][0]) for number in NO_INTEGERS + (-1,)])
             for row in rows + [(0, start), ((0, start),), ((0, start), 2, 0)] + list(NO_STANDINGS):
                 self.assertEqual(judge(plot, start, table + (row,)), len(table))
                 self.assertEqual(judge(plot, start, (row,) + table), 0)

@@ -256,7 +256,9 @@ class TestDelays(Case):
         self.judged(self.judge, DELAYS + ((("a", "", ""), 2), (("", "a", ""), 1)), None)
 
     def test_rows_of_another_form(self):
-        rows = [(row, 1) for row in BAD_WORLDS] + [(HEAPS[3], number) for number in NO_INTEGERS + (0, -1)]
+        # Where nothing can be done any delay is right.
+        rows = [(row, 1) for row in BAD_WORLDS]
+        rows.extend([(HEAPS[k], number) for k in (0, 3) for number in NO_INTEGERS + (0, -1)])
         for row in rows + [HEAPS[3], (HEAPS[3],), (HEAPS[3], 4, 0)] + list(BAD_WORLDS):
             self.assertEqual(self.judge(DELAYS + (row,)), 4)
             self.assertEqual(self.judge((row,) + DELAYS), 0)

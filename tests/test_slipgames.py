@@ -441,6 +441,9 @@ class TestJudged(Case):
 
     def test_rows_of_another_form(self):
         rows = [(thing, 0) for thing in NO_POSITIONS] + [((0, HERE, 0), number) for number in NO_INTEGERS + (-1,)]
+        # At an end that fits all prices are right, whatever slips have been made.
+        rows.extend([((3, THERE, made), 0) for made in NO_INTEGERS + (-1, 2)])
+        rows.extend([((3, THERE, 0), number) for number in NO_INTEGERS + (-1,)])
         for row in rows + [(0, HERE, 0), ((0, HERE, 0),), ((0, HERE, 0), 6, 0)] + list(NO_POSITIONS):
             self.assertEqual(self.judge(PRICES + (row,)), 6)
             self.assertEqual(self.judge((row,) + PRICES), 0)

@@ -22,16 +22,18 @@ ANY = (None, None, None)
 THINKS = ((PASSED, 0),)
 # The pass is kept; then they are asked, and it ends.
 CUES = (("do", "pass", "keep"), ("ask", 2, 2), END)
-BAD_MINDS = NO_TUPLES + (((PASSED, 0), (COIN, 0)), ((PASSED, 0), (PASSED, 0)), ((PASSED,),), ((PASSED, 1),), (PASSED, 0),
-                         ((PASSED, -1),), ((PASSED, True),), ((("a", ""), 0),), ((PASSED, 0, 0),), (None,))
+BAD_MINDS = NO_TUPLES + (((COIN, 0), (PASSED, 0)), ((PASSED, 0), (PASSED, 0)), ((PASSED,),), ((PASSED, 1),), (PASSED, 0),
+                         ((PASSED, -1),), ((PASSED, False),), ((("a", ""), 0),), ((PASSED, 0, 0),), (None,))
 
 
 def bad_situations():
     """Rows that have the form of no situation of the act, the layman and at most one challenge."""
     rows = [thing for thing in NO_TUPLES] + [(), (1, BOTH), (1, BOTH, THINKS), (1, BOTH, THINKS, 0, 0), (1, BOTH, 0, 0)]
     rows.extend(tuple(thing) + (THINKS, 0) for thing in NO_STANDINGS if isinstance(thing, (tuple, list)))
-    rows.extend((1, BOTH, mind, 0) for mind in BAD_MINDS)
-    rows.extend((1, BOTH, THINKS, made) for made in NO_INTEGERS + (-1, 2))
+    # At an end, when a challenge has been named, nothing more is asked of them but their form.
+    for number, named in ((1, 0), (2, 1)):
+        rows.extend((number, BOTH, mind, named) for mind in BAD_MINDS)
+        rows.extend((number, BOTH, THINKS, made) for made in NO_INTEGERS + (-1, 2))
     # This one is not at rest.
     return rows + [(0, BOTH, THINKS, 0), (3, BOTH, THINKS, 0)]
 
